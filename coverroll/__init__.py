@@ -1,0 +1,1 @@
+"""Coverroll: who pays which cent of a loss."""
