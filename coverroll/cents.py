@@ -19,10 +19,10 @@ def has_figures_alone(text):
     return True
 
 
-def is_whole_part(text):
-    if len(text) < 1 or len(text) > MOST_WHOLE_FIGURES:
+# A nought ahead would give one number a second way to be written.
+def writes_whole(text, most_figures):
+    if len(text) < 1 or len(text) > most_figures:
         return False
-    # A nought ahead would give one amount a second way to be written.
     if text[0] == "0" and len(text) > 1:
         return False
     return has_figures_alone(text)
@@ -36,7 +36,7 @@ def read_cents(text):
     if not isinstance(text, str):
         raise NoAmount("an amount is written as a text")
     pieces = text.split(".")
-    if len(pieces) != 2 or not is_whole_part(pieces[0]) or not is_cents_part(pieces[1]):
+    if len(pieces) != 2 or not is_cents_part(pieces[1]) or not writes_whole(pieces[0], MOST_WHOLE_FIGURES):
         raise NoAmount("an amount is a whole part, a point and two figures")
     return int(pieces[0]) * 100 + int(pieces[1])
 

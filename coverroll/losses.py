@@ -11,6 +11,14 @@ LAST_DAY = 1000000
 DAYS_OF_YEAR = 365
 MOST_CENTS = 999999999999
 
+# Where each of the six things stands in the tuple of a loss.
+NUMBER = 0
+DAY = 1
+EVENT = 2
+THING = 3
+CAUSE = 4
+CENTS = 5
+
 
 # islower and isalpha would let letters beyond a to z by.
 def has_letters_alone(text):
