@@ -5,108 +5,20 @@ import unittest
 
 from coverroll.books import Book
 from coverroll.clauses import Layer, Limit, Own
-from coverroll.conditions import All, CauseIs, Condition, DaysIn, Not, Over, Some, ThingIs
+from coverroll.conditions import CauseIs, Condition, Not
 from coverroll.counts import Counts
 from coverroll.covers import Cover
 from coverroll.settling import numbers_of, settle, strips_of
+from tests.making import (
+    WAYS, by_cents, by_the_rule, count_by_the_rule, cover, have, key_of, lefts_of, loss, some_cover,
+)
 
 MOST = 10**12 - 1
 FAR = 10**60 - 1
-WAYS = ("event", "thing", "year", "loss")
-
-
-def loss(cents, number=0, day=0, event="storm", thing="roof", cause="hail"):
-    return (number, day, event, thing, cause, cents)
-
-
-def cover(name, clauses=None, condition=None, waits=False):
-    return Cover(name, condition or Condition(), clauses, None, waits)
-
-
-def key_of(by, one):
-    return {"event": one[2], "thing": one[3], "year": one[1] // 365, "loss": one[0]}[by]
-
-
-def have(kept, one_cover, k, one):
-    return kept.get((one_cover.name, k, key_of(one_cover.clauses[k].by, one)), 0)
-
-
-def outside(clause, number):
-    """Whether a ground clause leaves the cent of this number out."""
-    if isinstance(clause, Own):
-        return number < clause.cents
-    return isinstance(clause, Layer) and not clause.first <= number < clause.upto
-
-
-def asked_of(covers, one):
-    asked = [c for c in covers if c.condition.holds(one)]
-    return [c for c in asked if not c.waits] + [c for c in asked if c.waits]
-
-
-def lefts_of(one_cover, kept, one):
-    return [(c.most - have(kept, one_cover, k, one), k) for k, c in enumerate(one_cover.clauses) if isinstance(c, Limit)]
-
-
-def by_the_rule(covers, kept, one):
-    """[6], cent by cent: of each cent the name and k that its strip has."""
-    asked = asked_of(covers, one)
-    told = [None] * one[5]
-    for payer in asked:
-        left = min(lefts_of(payer, kept, one), default=(one[5], 0))[0]
-        for cent in range(one[5]):
-            numbers = [have(kept, payer, k, one) + cent for k in range(len(payer.clauses))]
-            within = not any(outside(clause, number) for clause, number in zip(payer.clauses, numbers))
-            if told[cent] is None and within and left > 0:
-                told[cent] = (payer.name, -1)
-                left -= 1
-    for cent in range(one[5]):
-        if told[cent] is None:
-            told[cent] = borne_by_the_rule(asked, kept, one, cent)
-    return told
-
-
-def borne_by_the_rule(asked, kept, one, cent):
-    if not asked:
-        return ("", 0)
-    first = asked[0]
-    for k, clause in enumerate(first.clauses):
-        if outside(clause, have(kept, first, k, one) + cent):
-            return (first.name, k)
-    return (first.name, min(lefts_of(first, kept, one))[1])
-
-
-def count_by_the_rule(covers, kept, one, cents):
-    for asked in asked_of(covers, one):
-        for k, clause in enumerate(asked.clauses):
-            counted = cents.count((asked.name, -1)) if isinstance(clause, Limit) else one[5]
-            place = (asked.name, k, key_of(clause.by, one))
-            kept[place] = kept.get(place, 0) + counted
-
-
-def by_cents(strips):
-    return [(name, k) for lo, hi, name, k in strips for cent in range(lo, hi)]
 
 
 def paid_cents(strips):
     return {cent for lo, hi, name, k in strips if k == -1 for cent in range(lo, hi)}
-
-
-def some_clause(chooser):
-    by = chooser.choice(WAYS)
-    a, b = sorted(chooser.sample(range(45), 2))
-    kinds = [lambda: Own(by, a // 2), lambda: Layer(by, a // 3, 20 + b), lambda: Limit(by, b), lambda: Limit(by, a // 3)]
-    return chooser.choice(kinds)()
-
-
-def some_condition(chooser):
-    several = [CauseIs("hail"), Not(CauseIs("fire")), ThingIs("roof"), DaysIn(0, 400), Over(9), Not(Over(20))]
-    several += [Some([ThingIs("wall"), Over(5)]), All([CauseIs("hail"), Not(ThingIs("wall"))])]
-    return chooser.choice([Condition()] * 8 + several)
-
-
-def some_cover(chooser, name):
-    clauses = [some_clause(chooser) for k in range(chooser.choice((0, 1, 1, 2, 2, 3, 4)))]
-    return Cover(name, some_condition(chooser), clauses, None, chooser.random() < 0.3)
 
 
 def some_losses(chooser, many):
