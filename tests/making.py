@@ -288,6 +288,22 @@ def some_covers(chooser, many):
     return [some_cover(chooser, name, some_houses(chooser)) for name in ("dd", "b", "cc", "a")[:many]]
 
 
+def upper_cover(chooser, name):
+    """A cover for a row from 1 on, where the things are the houses of the row above."""
+    conditions = [ThingIs("acme"), Not(ThingIs("beta")), CauseIs("hail"), Over(5), Some([ThingIs("carl"), ThingIs("b")])]
+    condition = chooser.choice([Condition()] * 3 + conditions)
+    clauses = [some_clause(chooser) for k in range(chooser.choice((0, 0, 0, 1, 2)))]
+    return Cover(name, condition, clauses, some_houses(chooser), chooser.random() < 0.3)
+
+
+def some_towers(chooser, size):
+    """The covers of each book of a tower."""
+    books = [some_covers(chooser, chooser.randint(0, 4) or 2)]
+    while len(books) < size:
+        books.append([upper_cover(chooser, name) for name in ("up", "acme", "z")[:chooser.choice((0, 1, 2, 2, 2, 3, 3))]])
+    return books
+
+
 def some_loss(chooser, number, days):
     names = [chooser.choice(pair) for pair in (("storm", "flood", "storm"), ("roof", "wall"), ("hail", "fire"))]
     return loss(chooser.choice((1, 2, chooser.randint(1, 15), chooser.randint(1, 60))), number, chooser.choice(days), *names)
