@@ -24,10 +24,14 @@ def by_number(rows):
     return kept
 
 
+def check_books(books):
+    if not isinstance(books, list) or len(books) < 1 or len(books) > MOST_BOOKS:
+        raise NoBook("a tower has a list of one to four books")
+
+
 class Tower:
     def __init__(self, books):
-        if not isinstance(books, list) or len(books) < 1 or len(books) > MOST_BOOKS:
-            raise NoBook("a tower has a list of one to four books")
+        check_books(books)
         self.ledgers = [Ledger(book) for book in books]
         self.origins = [{} for book in books]
         self.made = [{} for book in books]

@@ -10,6 +10,7 @@ from coverroll.clauses import Layer, Limit, Own
 from coverroll.conditions import All, CauseIs, Condition, DaysIn, Not, Over, Some, ThingIs
 from coverroll.covers import Cover
 from coverroll.errors import Late, Twice
+from coverroll.towers import Tower
 
 WAYS = ("event", "thing", "year", "loss")
 
@@ -325,3 +326,11 @@ def enter_rows(keeper, rows):
             keeper.loss(*row)
         else:
             keeper.back(*row)
+
+
+def filled_tower(books, rows, closes=()):
+    tower = Tower(books)
+    enter_rows(tower, rows)
+    for day in closes:
+        tower.close(day)
+    return tower

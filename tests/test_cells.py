@@ -46,7 +46,8 @@ class TestMarks(unittest.TestCase):
 
     def test_sorted_and_none_twice(self):
         book = book_of(
-            Some([CauseIs("b"), CauseIs("a"), CauseIs("b")]), CauseIs("ab"), All([ThingIs("z"), ThingIs("y"), CauseIs("a")]), ThingIs("z"),
+            Some([CauseIs("b"), CauseIs("a"), CauseIs("b")]), CauseIs("ab"),
+            All([ThingIs("z"), ThingIs("y"), CauseIs("a")]), ThingIs("z"),
             DaysIn(30, 39), DaysIn(40, 49), DaysIn(9, 29), Some([Over(10**11), Over(9), Over(0), Over(9), Over(MOST)]),
         )
         self.assertEqual(marks_of(book), (["a", "ab", "b"], ["y", "z"], [9, 30, 40, 50], [0, 9, 10**11, MOST]))
@@ -105,7 +106,8 @@ class TestCells(Case):
     def test_in_their_order(self):
         book = book_of(All([CauseIs("hail"), ThingIs("roof")]), All([CauseIs("fire"), DaysIn(365, 729)]))
         stretches = [(0, 364), (365, 729), (730, LAST)]
-        wanted = [(cause, thing, first, last) for cause in ("fire", "hail", "") for thing in ("roof", "") for first, last in stretches]
+        wanted = [(cause, thing, first, last) for cause in ("fire", "hail", "") for thing in ("roof", "") for first,
+            last in stretches]
         self.assertEqual(cells_of(book), wanted)
         self.assertTrue(all(isinstance(cell, tuple) for cell in cells_of(book)))
 
@@ -113,14 +115,17 @@ class TestCells(Case):
         self.assertEqual(cells_of(book_of(DaysIn(0, 0))), [("", "", 0, 0), ("", "", 1, LAST)])
         self.assertEqual(cells_of(book_of(DaysIn(LAST, LAST))), [("", "", 0, LAST - 1), ("", "", LAST, LAST)])
         self.assertEqual(cells_of(book_of(DaysIn(0, LAST))), [("", "", 0, LAST)])
-        self.assertEqual(cells_of(book_of(DaysIn(4, 4), DaysIn(5, 5))), [("", "", 0, 3), ("", "", 4, 4), ("", "", 5, 5), ("", "", 6, LAST)])
+        self.assertEqual(cells_of(book_of(DaysIn(4, 4), DaysIn(5, 5))),
+            [("", "", 0, 3), ("", "", 4, 4), ("", "", 5, 5), ("", "", 6, LAST)])
 
     def test_just_120_and_121(self):
-        for causes, things, days in ((0, 0, 119), (119, 0, 0), (0, 119, 0), (3, 4, 5), (1, 1, 29), (9, 11, 0), (0, 9, 11), (5, 4, 3)):
+        for causes, things, days in ((0, 0, 119), (119, 0, 0), (0, 119, 0), (3, 4, 5), (1, 1, 29), (9, 11, 0),
+            (0, 9, 11), (5, 4, 3)):
             book = marked(names(causes), names(things), range(3, 3 + days))
             self.assertEqual([len(part) for part in marks_of(book)], [causes, things, days, 0])
             self.assertEqual(len(cells_of(book)), 120)
-        for causes, things, days in ((0, 0, 120), (120, 0, 0), (0, 120, 0), (10, 10, 0), (0, 10, 10), (10, 0, 10), (4, 4, 4), (30, 30, 30)):
+        for causes, things, days in ((0, 0, 120), (120, 0, 0), (0, 120, 0), (10, 10, 0), (0, 10, 10), (10, 0, 10),
+            (4, 4, 4), (30, 30, 30)):
             self.refused(TooWide, cells_of, marked(names(causes), names(things), range(3, 3 + days)))
 
     def test_amounts_make_no_cells(self):
@@ -133,7 +138,8 @@ class TestCells(Case):
             cells = cells_of(book)
             causes, things = marks_of(book)[:2]
             for times in range(20):
-                cause, thing, day = chooser.choice(names(6)), chooser.choice(names(6)), chooser.choice((0, LAST, chooser.randint(0, 31)))
+                cause, thing, day = chooser.choice(names(6)), chooser.choice(names(6)), chooser.choice((0, LAST,
+                    chooser.randint(0, 31)))
                 place = (cause if cause in causes else "", thing if thing in things else "")
                 self.assertEqual(len([cell for cell in cells if cell[:2] == place and cell[2] <= day <= cell[3]]), 1)
 
@@ -142,7 +148,8 @@ class TestStretches(unittest.TestCase):
     def test_bounds_at_below_and_above_the_amounts(self):
         book = book_of(Over(50), Over(9), Over(50), Over(0))
         for bound, wanted in (
-            (1, [(1, 1)]), (8, [(1, 8)]), (9, [(1, 9)]), (10, [(1, 9), (10, 10)]), (49, [(1, 9), (10, 49)]), (50, [(1, 9), (10, 50)]),
+            (1, [(1, 1)]), (8, [(1, 8)]), (9, [(1, 9)]), (10, [(1, 9), (10, 10)]), (49, [(1, 9), (10, 49)]),
+            (50, [(1, 9), (10, 50)]),
             (51, [(1, 9), (10, 50), (51, 51)]), (52, [(1, 9), (10, 50), (51, 52)]), (MOST, [(1, 9), (10, 50), (51, MOST)]),
         ):
             self.assertEqual(stretches_of(book, bound), wanted)

@@ -10,15 +10,7 @@ from coverroll.conditions import ThingIs
 from coverroll.errors import NotTold
 from coverroll.finals import final_of, path_of, sheet_of
 from coverroll.towers import Tower
-from tests.making import Case, ReckonedTower, cover, enter_rows, loss, some_rows, some_towers, summed
-
-
-def filled(books, rows, closes=()):
-    tower = Tower(books)
-    enter_rows(tower, rows)
-    for day in closes:
-        tower.close(day)
-    return tower
+from tests.making import Case, ReckonedTower, cover, filled_tower, loss, some_rows, some_towers, summed
 
 
 def two_rows():
@@ -33,51 +25,54 @@ def made_towers(seed, many, sizes=(1, 2, 3, 4)):
         rows = some_rows(chooser, 9, range(0, 400, 40), backs=0.35)
         closed = chooser.choice((120, 400, 400))
         settled = [row for row in rows if row[1] <= closed]
-        yield filled([Book(covers) for covers in books], rows, [closed]), ReckonedTower(books, settled), rows
+        yield filled_tower([Book(covers) for covers in books], rows, [closed]), ReckonedTower(books, settled), rows
 
 
 class TestFinal(Case):
     def test_by_hand(self):
-        tower = filled(two_rows(), [loss(14, 7, 3), (8, 4, "storm", 5)], [3])
-        self.assertEqual(tower.bears(0, 7), [("", "low", 0, 2), ("", "low", 1, 3), ("acme", "low", -1, 6), ("beta", "low", -1, 3)])
+        tower = filled_tower(two_rows(), [loss(14, 7, 3), (8, 4, "storm", 5)], [3])
+        self.assertEqual(tower.bears(0, 7),
+            [("", "low", 0, 2), ("", "low", 1, 3), ("acme", "low", -1, 6), ("beta", "low", -1, 3)])
         self.assertEqual(final_of(tower, 7), [(0, "", 5), (1, "acme", 3), (1, "beta", 3), (2, "beta", 1), (2, "zeta", 2)])
         tower.close(4)
-        self.assertEqual(tower.bears(0, 7), [("", "low", 0, 2), ("", "low", 1, 1), ("acme", "low", -1, 4), ("beta", "low", -1, 2)])
+        self.assertEqual(tower.bears(0, 7),
+            [("", "low", 0, 2), ("", "low", 1, 1), ("acme", "low", -1, 4), ("beta", "low", -1, 2)])
         self.assertEqual(final_of(tower, 7), [(0, "", 3), (1, "acme", 1), (1, "beta", 2), (2, "beta", 1), (2, "zeta", 2)])
 
     def test_a_tower_of_one_book(self):
-        tower = filled(two_rows()[:1], [loss(14, 7, 3), (8, 4, "storm", 5)], [3])
+        tower = filled_tower(two_rows()[:1], [loss(14, 7, 3), (8, 4, "storm", 5)], [3])
         self.assertEqual(final_of(tower, 7), [(0, "", 5), (1, "acme", 6), (1, "beta", 3)])
         tower.close(4)
         self.assertEqual(final_of(tower, 7), [(0, "", 3), (1, "acme", 4), (1, "beta", 2)])
 
     def test_no_cover_asked(self):
         for size in range(1, 5):
-            tower = filled([Book([])] * size, [loss(14, 7, 3)], [3])
+            tower = filled_tower([Book([])] * size, [loss(14, 7, 3)], [3])
             self.assertEqual(final_of(tower, 7), [(0, "", 14)])
 
     def test_a_house_that_nobody_covers(self):
-        tower = filled(two_rows()[:1] + [Book([])] * 3, [loss(14, 7, 3)], [3])
+        tower = filled_tower(two_rows()[:1] + [Book([])] * 3, [loss(14, 7, 3)], [3])
         self.assertEqual(final_of(tower, 7), [(0, "", 5), (1, "acme", 6), (1, "beta", 3)])
 
     def test_houses_all_the_way_up(self):
-        tower = filled([Book([cover("low", houses=[("acme", 1)])])] * 4, [loss(14, 7, 3)], [3])
+        tower = filled_tower([Book([cover("low", houses=[("acme", 1)])])] * 4, [loss(14, 7, 3)], [3])
         self.assertEqual(final_of(tower, 7), [(4, "acme", 14)])
         self.assertEqual(sheet_of(tower), [(4, "acme", 14)])
 
     def test_one_house_in_several_rows_and_by_several_ways(self):
         low = Book([cover("low", houses=[("acme", 1), ("beta", 1)])])
-        tower = filled([low, low], [loss(8, 7, 3)], [3])
+        tower = filled_tower([low, low], [loss(8, 7, 3)], [3])
         self.assertEqual(final_of(tower, 7), [(2, "acme", 4), (2, "beta", 4)])
         back = Book([cover("low", [Own("loss", 1)], houses=[("self", 1), ("acme", 3)])])
-        self.assertEqual(final_of(filled([low, back], [loss(8, 7, 3)], [3]), 7), [(1, "acme", 2), (1, "beta", 2), (2, "acme", 4)])
+        self.assertEqual(final_of(filled_tower([low, back], [loss(8, 7, 3)], [3]), 7),
+            [(1, "acme", 2), (1, "beta", 2), (2, "acme", 4)])
 
     def test_where_nothing_stands(self):
-        tower = filled(two_rows(), [loss(14, 7, 3), (8, 3, "storm", 14)], [3])
+        tower = filled_tower(two_rows(), [loss(14, 7, 3), (8, 3, "storm", 14)], [3])
         self.assertEqual((final_of(tower, 7), sheet_of(tower)), ([], []))
 
     def test_not_told(self):
-        tower = filled(two_rows(), [loss(14, 7, 3), (8, 3, "storm", 5), loss(9, 9, 5), (10, 5, "storm", 5)], [3])
+        tower = filled_tower(two_rows(), [loss(14, 7, 3), (8, 3, "storm", 5), loss(9, 9, 5), (10, 5, "storm", 5)], [3])
         for number in (8, 9, 10, 0, 1, 10**9):
             self.refused(NotTold, final_of, tower, number)
             self.refused(NotTold, path_of, tower, number, 0)
@@ -109,15 +104,15 @@ class TestFinal(Case):
 
     def test_an_empty_sheet(self):
         self.assertEqual(sheet_of(Tower(two_rows())), [])
-        self.assertEqual(sheet_of(filled(two_rows(), [loss(14, 7, 3)], [2])), [])
+        self.assertEqual(sheet_of(filled_tower(two_rows(), [loss(14, 7, 3)], [2])), [])
 
     def test_great_numbers(self):
         most = 10**12 - 1
-        tower = filled(two_rows(), [loss(most, number, 3) for number in range(9)], [3])
+        tower = filled_tower(two_rows(), [loss(most, number, 3) for number in range(9)], [3])
         self.assertEqual(sum(row[2] for row in sheet_of(tower)), 9 * most)
 
     def test_asking_changes_nothing_and_what_is_told_is_the_askers_own(self):
-        tower = filled(two_rows(), [loss(14, 7, 3), (8, 4, "storm", 5)], [3])
+        tower = filled_tower(two_rows(), [loss(14, 7, 3), (8, 4, "storm", 5)], [3])
         for asked in (lambda: final_of(tower, 7), lambda: sheet_of(tower), lambda: path_of(tower, 7, 2)):
             wanted = asked()
             told = asked()
@@ -132,21 +127,23 @@ class TestFinal(Case):
 
 class TestPath(Case):
     def test_by_hand(self):
-        tower = filled(two_rows(), [loss(14, 7, 3), (8, 4, "storm", 5)], [4])
+        tower = filled_tower(two_rows(), [loss(14, 7, 3), (8, 4, "storm", 5)], [4])
         ways = [path_of(tower, 7, cent) for cent in range(14)]
         self.assertEqual(ways[0], [(0, 7, 0, "", "low", 0)])
         self.assertEqual([way[0][3] for way in ways[2:]], ["acme", "beta", "acme", ""] * 3)
         self.assertEqual(ways[5], [(0, 7, 5, "", "low", 1)])
         self.assertEqual([ways[cent] for cent in (2, 4, 6, 8)], [
-            [(0, 7, 2, "acme", "low", -1), (1, 0, 0, "zeta", "top", -1)], [(0, 7, 4, "acme", "low", -1), (1, 0, 1, "beta", "top", -1)],
+            [(0, 7, 2, "acme", "low", -1), (1, 0, 0, "zeta", "top", -1)],
+            [(0, 7, 4, "acme", "low", -1), (1, 0, 1, "beta", "top", -1)],
             [(0, 7, 6, "acme", "low", -1), (1, 0, 2, "zeta", "top", -1)], [(0, 7, 8, "acme", "low", -1), (1, 0, 3, "", "top", 0)],
         ])
         self.assertEqual(ways[3], [(0, 7, 3, "beta", "low", -1), (1, 1, 0, "", "", 0)])
         self.assertEqual(ways[11], [(0, 7, 11, "beta", "low", -1), (1, 1, 2, "", "", 0)])
 
     def test_a_tower_of_one_book(self):
-        tower = filled(two_rows()[:1], [loss(14, 7, 3)], [4])
-        self.assertEqual([path_of(tower, 7, cent) for cent in (0, 2)], [[(0, 7, 0, "", "low", 0)], [(0, 7, 2, "acme", "low", -1)]])
+        tower = filled_tower(two_rows()[:1], [loss(14, 7, 3)], [4])
+        self.assertEqual([path_of(tower, 7, cent) for cent in (0, 2)],
+            [[(0, 7, 0, "", "low", 0)], [(0, 7, 2, "acme", "low", -1)]])
 
     def test_the_ways_of_all_cents(self):
         lengths, ends = Counter(), Counter()
@@ -171,7 +168,7 @@ class TestPath(Case):
 
     def test_great_numbers(self):
         most = 10**12 - 1
-        tower = filled([Book([cover("low", houses=[("acme", 1), ("beta", 1)])])] * 4, [loss(most, 7, 3)], [3])
+        tower = filled_tower([Book([cover("low", houses=[("acme", 1), ("beta", 1)])])] * 4, [loss(most, 7, 3)], [3])
         self.assertEqual([step[2] for step in path_of(tower, 7, 10**11)], [10**11, 5 * 10**10, 25 * 10**9, 125 * 10**8])
 
 

@@ -110,7 +110,8 @@ class TestEnter(Case):
     def test_what_was_refused_is_not_there_and_its_number_is_free(self):
         rows = [loss(30, 1, 3), (2, 3, "storm", 4)]
         ledger, fresh = filled(small_book(), rows, [3]), filled(small_book(), rows, [3])
-        refused = [lambda n: ledger.loss(n, 3, "storm", "roof", "hail", 5), lambda n: ledger.loss(n, 9, "storm", "roof", "hail", 0),
+        refused = [lambda n: ledger.loss(n, 3, "storm", "roof", "hail", 5),
+            lambda n: ledger.loss(n, 9, "storm", "roof", "hail", 0),
                    lambda n: ledger.back(n, 3, "storm", 5), lambda n: ledger.back(n, 9, "storm", 0),
                    lambda n: ledger.loss(1, 9, "storm", "roof", "hail", 5), lambda n: ledger.back(2, 9, "storm", 5)]
         for number, call in enumerate(refused * 2, start=10):
@@ -292,7 +293,8 @@ class TestByTheRule(unittest.TestCase):
         book = Book([cover("low", [Own("loss", 2)], houses=[("acme", 1), ("self", 1)])])
         rows = [loss(most, number, 1) for number in range(3)] + [(9, 2, "storm", most), (8, 2, "storm", 5)]
         ledger = filled(book, rows, [2])
-        self.assertEqual(ledger.bears(0), [("", "low", 0, 2), ("", "low", 1, (most - 3) // 2), ("acme", "low", -1, (most - 1) // 2)])
+        self.assertEqual(ledger.bears(0),
+            [("", "low", 0, 2), ("", "low", 1, (most - 3) // 2), ("acme", "low", -1, (most - 1) // 2)])
         self.assertEqual(ledger.bears(1, 2, 3), [("", "low", 1, 1)])
         self.assertEqual([ledger.gave(8), ledger.gave(9)], [[(2, most - 5, most)], [(2, 0, most - 5), (1, most - 5, most)]])
 

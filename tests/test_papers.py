@@ -64,13 +64,15 @@ def parted(row, day=None, cents=None):
     """A row parted in two, by days or by amounts."""
     cell, lo, hi, strips, claims = row
     if day is not None:
-        return [((cell[0], cell[1], cell[2], day - 1), lo, hi, strips, claims), ((cell[0], cell[1], day, cell[3]), lo, hi, strips, claims)]
+        return [((cell[0], cell[1], cell[2], day - 1), lo, hi, strips, claims),
+            ((cell[0], cell[1], day, cell[3]), lo, hi, strips, claims)]
     return [(cell, lo, cents, cut(strips, cents), cut(claims, cents)), (cell, cents + 1, hi, strips, claims)]
 
 
 class TestClaims(unittest.TestCase):
     def test_firm_covers_that_are_asked_in_the_books_order(self):
-        covers = [cover("z"), cover("late", waits=True), cover("b", [Own("loss", 3)]), cover("fire", condition=CauseIs("fire")), cover("a")]
+        covers = [cover("z"), cover("late", waits=True), cover("b", [Own("loss", 3)]),
+            cover("fire", condition=CauseIs("fire")), cover("a")]
         self.assertEqual(claims_of(Book(covers), loss(9)), [("z", 0, 9), ("b", 3, 9), ("a", 0, 9)])
         self.assertEqual(claims_of(Book(covers), loss(9, cause="fire")), [("z", 0, 9), ("b", 3, 9), ("fire", 0, 9), ("a", 0, 9)])
         self.assertEqual(claims_of(Book(covers[1:2]), loss(9)), [])
@@ -78,7 +80,8 @@ class TestClaims(unittest.TestCase):
 
     def test_limits_of_all_ways(self):
         for by in WAYS:
-            for most, wanted in ((0, []), (1, [("low", 0, 1)]), (8, [("low", 0, 8)]), (9, [("low", 0, 9)]), (50, [("low", 0, 9)])):
+            for most, wanted in ((0, []), (1, [("low", 0, 1)]), (8, [("low", 0, 8)]), (9, [("low", 0, 9)]),
+                (50, [("low", 0, 9)])):
                 self.assertEqual(claims_of(Book([cover("low", [Limit(by, most)])]), loss(9, 7, 800)), wanted)
 
     def test_windows_and_limits(self):
@@ -143,7 +146,8 @@ class TestPaper(Case):
         for chooser, book in some_books(84, 60):
             bound = chooser.choice((1, 9, 10, 40, MOST))
             rows = paper_of(book, bound)
-            self.assertEqual([row[:3] for row in rows], [(cell,) + one for cell in cells_of(book) for one in stretches_of(book, bound)])
+            self.assertEqual([row[:3] for row in rows],
+                [(cell,) + one for cell in cells_of(book) for one in stretches_of(book, bound)])
             for cell, lo, hi, strips, claims in rows:
                 one = loss_in(book, cell, hi)
                 self.assertEqual((strips, claims), (strips_of(book, Counts(), one), claims_of(book, one)))
@@ -222,9 +226,11 @@ class TestFirstFault(unittest.TestCase):
     def test_gaps_by_the_wish(self):
         rows = [self.row([(0, 10, "a", -1), (10, 20, "a", 0), (20, 30, "a", -1), (30, 40, "a", 1)])]
         for first, upto, wanted in (
-            (0, 40, (11, "gap", 10)), (0, 11, (11, "gap", 10)), (0, 10, None), (10, 11, (11, "gap", 10)), (15, 40, (16, "gap", 15)),
+            (0, 40, (11, "gap", 10)), (0, 11, (11, "gap", 10)), (0, 10, None), (10, 11, (11, "gap", 10)),
+            (15, 40, (16, "gap", 15)),
             (19, 20, (20, "gap", 19)), (20, 30, None), (20, 31, (31, "gap", 30)), (39, 40, (40, "gap", 39)), (40, 50, None),
-            (10, 10, None), (15, 15, None), (0, 0, None), (FAR - 1, FAR, None), (0, FAR, (11, "gap", 10)), (35, FAR, (36, "gap", 35)),
+            (10, 10, None), (15, 15, None), (0, 0, None), (FAR - 1, FAR, None), (0, FAR, (11, "gap", 10)),
+            (35, FAR, (36, "gap", 35)),
         ):
             self.assertEqual(first_fault(rows, first, upto), wanted and wanted + (self.CELL,))
 
@@ -245,8 +251,10 @@ class TestFirstFault(unittest.TestCase):
         strips = [(0, 40, "a", -1)]
         for claims, cent in (
             ([("a", 0, 40)], None), ([("a", 0, 20), ("b", 20, 40)], None), ([("a", 0, 21), ("b", 20, 40)], 20), ([], None),
-            ([("b", 20, 40), ("a", 0, 21)], 20), ([("a", 0, 40), ("b", 5, 9), ("c", 3, 5)], 3), ([("a", 0, 5), ("b", 9, 20), ("c", 12, 15)], 12),
-            ([("a", 0, 9), ("b", 0, 9)], 0), ([("a", 39, 40), ("b", 0, 40)], 39), ([("a", 0, 40), ("b", 7, 30), ("c", 30, 40)], 7),
+            ([("b", 20, 40), ("a", 0, 21)], 20), ([("a", 0, 40), ("b", 5, 9), ("c", 3, 5)], 3),
+            ([("a", 0, 5), ("b", 9, 20), ("c", 12, 15)], 12),
+            ([("a", 0, 9), ("b", 0, 9)], 0), ([("a", 39, 40), ("b", 0, 40)], 39),
+            ([("a", 0, 40), ("b", 7, 30), ("c", 30, 40)], 7),
             ([("c", 30, 40), ("a", 0, 20), ("b", 20, 30), ("d", 35, 36)], 35),
         ):
             wanted = None if cent is None else (cent + 1, "double", cent, self.CELL)

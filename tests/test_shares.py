@@ -58,7 +58,8 @@ class TestDealtTo(unittest.TestCase):
         self.assertEqual(dealt_to(one, 5, 0, 2), [("beta", 2)])
         self.assertEqual(dealt_to(one, 5, 1, 2), [("beta", 1)])
         self.assertEqual(dealt_to(one, 6 * FAR, 3, 4), [("acme", 1)])
-        self.assertEqual(dealt_to(one, 6 * FAR + 1, 0, 6 * 10**11), [("acme", 10**11), ("self", 2 * 10**11), ("beta", 3 * 10**11)])
+        self.assertEqual(dealt_to(one, 6 * FAR + 1, 0, 6 * 10**11),
+            [("acme", 10**11), ("self", 2 * 10**11), ("beta", 3 * 10**11)])
 
     def test_the_house_of_the_covers_name(self):
         self.assertEqual(dealt_to(cover("low"), 7, 2, 9), [("low", 7)])
@@ -121,7 +122,8 @@ class TestBorneBy(unittest.TestCase):
             ("", "low", 0, 2), ("", "low", 1, 3), ("", "low", 2, 4),
             ("acme", "high", -1, 1), ("acme", "low", -1, 3), ("beta", "high", -1, 2),
         ])
-        self.assertEqual(borne_by(book, strips, {"high": 1, "other": 9}, 9, 12), [("acme", "high", -1, 1), ("beta", "high", -1, 2)])
+        self.assertEqual(borne_by(book, strips, {"high": 1, "other": 9}, 9, 12),
+            [("acme", "high", -1, 1), ("beta", "high", -1, 2)])
         self.assertEqual(borne_by(book, strips, {"high": 2}, 9, 10), [("acme", "high", -1, 1)])
         self.assertEqual(borne_by(book, strips, {}, 9, 10), [("beta", "high", -1, 1)])
         self.assertEqual(borne_by(book, strips, {}, 14, 15), [("", "low", 1, 1)])
@@ -141,7 +143,8 @@ class TestBorneBy(unittest.TestCase):
             self.assertEqual(borne_by(book, strips, {"low": 3}, cent, cent), [])
 
     def test_one_house_by_two_covers_is_two_rows(self):
-        book = Book([Cover(name, Condition(), [Layer("loss", lo, hi)], [("acme", 1)]) for name, lo, hi in (("b", 0, 3), ("a", 3, 9))])
+        book = Book([Cover(name, Condition(), [Layer("loss", lo, hi)], [("acme", 1)]) for name, lo,
+            hi in (("b", 0, 3), ("a", 3, 9))])
         self.assertEqual(borne_by(book, settle(book, Counts(), loss(9)), {}, 0, 9), [("acme", "a", -1, 6), ("acme", "b", -1, 3)])
 
     def test_a_cover_that_pays_several_stretches(self):
@@ -166,7 +169,8 @@ class TestBorneBy(unittest.TestCase):
         self.assertEqual(sorts, {(False, False, True), (True, True, False), (True, False, False)})
 
     def test_strips_of_one_cover_that_begin_above_the_ground(self):
-        book = Book([cover("b", [Layer("loss", 5, 7)]), cover("a", [Own("loss", 2)], houses=[("acme", 1), ("beta", 1), ("carl", 2)])])
+        book = Book([cover("b", [Layer("loss", 5, 7)]),
+            cover("a", [Own("loss", 2)], houses=[("acme", 1), ("beta", 1), ("carl", 2)])])
         strips = settle(book, Counts(), loss(12))
         self.assertEqual(strips, [(0, 2, "b", 0), (2, 5, "a", -1), (5, 7, "b", -1), (7, 12, "a", -1)])
         for base in range(5):

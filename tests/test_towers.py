@@ -11,7 +11,7 @@ from coverroll.errors import Late, NoBook, NoEntry, NotTold, Twice
 from coverroll.ledgers import Ledger
 from coverroll.towers import Tower, by_house
 from tests.making import (
-    Case, ReckonedTower, cover, enter_rows, loss, some_loss, some_rows, some_towers, spoilt_backs, spoilt_losses,
+    Case, ReckonedTower, cover, enter_rows, filled_tower, loss, some_loss, some_rows, some_towers, spoilt_backs, spoilt_losses,
 )
 
 LAST = 10**6
@@ -30,14 +30,6 @@ def upper_book():
 
 def books_of(size):
     return [ground_book(), upper_book(), upper_book(), ground_book()][:size]
-
-
-def filled(books, rows, closes=()):
-    tower = Tower(books)
-    enter_rows(tower, rows)
-    for day in closes:
-        tower.close(day)
-    return tower
 
 
 def row_told(tower, r):
@@ -70,7 +62,7 @@ def made_towers(seed, many, days=range(0, 400, 40), rows=9):
 
 
 def tower_of(books, rows, closes):
-    return filled([Book(covers) for covers in books], rows, closes)
+    return filled_tower([Book(covers) for covers in books], rows, closes)
 
 
 class TestMaking(Case):
@@ -86,7 +78,7 @@ class TestMaking(Case):
     def test_one_book_in_several_rows_and_towers(self):
         book = ground_book()
         rows = [loss(30, 1, 1), (2, 2, "storm", 7), loss(9, 3, 3, "flood")]
-        one, other = filled([book] * 3, rows, [5]), filled([ground_book(), ground_book(), ground_book()], rows, [5])
+        one, other = filled_tower([book] * 3, rows, [5]), filled_tower([ground_book(), ground_book(), ground_book()], rows, [5])
         self.assertEqual(all_told(one), all_told(other))
         fresh = Tower([book, book])
         self.assertEqual(all_told(fresh), [([], [], [], [], [])] * 2)
@@ -104,7 +96,7 @@ class TestMaking(Case):
         rows = [loss(30, 1, 1)]
         enter_rows(tower, rows)
         tower.close(1)
-        self.assertEqual(all_told(tower), all_told(filled(books_of(2), rows, [1])))
+        self.assertEqual(all_told(tower), all_told(filled_tower(books_of(2), rows, [1])))
         self.assertEqual(len(books), 3)
 
 
@@ -133,7 +125,7 @@ class TestEntering(Case):
 
     def test_such_an_event_goes_ahead_of_twice_and_of_late(self):
         for size in range(2, 5):
-            tower = filled(books_of(size), [loss(40, 1, 3), (2, 3, "storm", 5), loss(40, 3, 30)], [10])
+            tower = filled_tower(books_of(size), [loss(40, 1, 3), (2, 3, "storm", 5), loss(40, 3, 30)], [10])
             event = ".".join(["storm"] * (6 - size))
             for number in (1, 2, 3, 9):
                 self.refused(NoEntry, tower.loss, *loss(40, number, 3, event))
@@ -142,7 +134,7 @@ class TestEntering(Case):
             self.refused(NoEntry, tower.foretell, [(3, "storm", "roof", "hail", 5), (30, event, "roof", "hail", 5)])
 
     def test_refused_as_by_a_ledger(self):
-        tower = filled(books_of(3), [loss(40, 7, 3), (8, 30, "storm", 5)], [10])
+        tower = filled_tower(books_of(3), [loss(40, 7, 3), (8, 30, "storm", 5)], [10])
         for number in (7, 8, 9):
             for one in spoilt_losses(loss(5, number, 3)):
                 self.refused(NoEntry, tower.loss, *one)
@@ -156,9 +148,10 @@ class TestEntering(Case):
 
     def test_refusals_change_nothing(self):
         rows = [loss(40, 7, 3), (8, 5, "storm", 5), loss(40, 1, 30)]
-        tower, fresh = filled(books_of(3), rows, [10]), filled(books_of(3), rows, [10])
+        tower, fresh = filled_tower(books_of(3), rows, [10]), filled_tower(books_of(3), rows, [10])
         for call in (lambda: tower.loss(9, 3, "storm", "roof", "hail", 5), lambda: tower.loss(9, 30, "a.b.c", "roof", "hail", 5),
-                     lambda: tower.back(9, 30, "a.b.c", 5), lambda: tower.back(9, 30, "storm", 0), lambda: tower.back(1, 30, "a", 5),
+                     lambda: tower.back(9, 30, "a.b.c", 5), lambda: tower.back(9, 30, "storm", 0),
+                     lambda: tower.back(1, 30, "a", 5),
                      lambda: tower.loss(8, 30, "a", "b", "c", 5), lambda: tower.close(-1), lambda: tower.close(True),
                      lambda: tower.foretell([(30, "a.b.c", "roof", "hail", 5)]), lambda: tower.close(LAST + 1)):
             with self.assertRaises((NoEntry, Late, Twice)):
@@ -190,10 +183,11 @@ class TestEntering(Case):
 
 class TestClosing(Case):
     def test_by_hand(self):
-        tower = filled([ground_book(), upper_book()], [loss(12, 7, 3, cause="fire"), (5, 3, "storm", 3)])
+        tower = filled_tower([ground_book(), upper_book()], [loss(12, 7, 3, cause="fire"), (5, 3, "storm", 3)])
         self.assertEqual(tower.close(3), [7, 5])
         self.assertEqual(tower.strips(0, 7), [(0, 2, "high", -1), (2, 12, "low", -1)])
-        self.assertEqual(tower.bears(0, 7, 0, 12), [("", "low", 2, 2), ("acme", "high", -1, 2), ("acme", "low", -1, 4), ("beta", "low", -1, 4)])
+        self.assertEqual(tower.bears(0, 7, 0, 12),
+            [("", "low", 2, 2), ("acme", "high", -1, 2), ("acme", "low", -1, 4), ("beta", "low", -1, 4)])
         self.assertEqual(tower.losses(1), [(0, 3, "storm.acme", "acme", "fire", 6), (1, 3, "storm.beta", "beta", "fire", 4)])
         self.assertEqual(tower.bears(0, 7, 9, 12), [("", "low", 2, 1), ("acme", "low", -1, 1), ("beta", "low", -1, 1)])
         self.assertEqual(tower.backs(1), [(2, 3, "storm.acme", 1), (3, 3, "storm.beta", 1)])
@@ -203,7 +197,7 @@ class TestClosing(Case):
 
     def test_numbers_go_on_over_closes(self):
         rows = [loss(12, 7, 3), loss(12, 2, 3, "flood"), (5, 4, "storm", 3), loss(9, 0, 5)]
-        tower = filled(books_of(2), rows)
+        tower = filled_tower(books_of(2), rows)
         self.assertEqual([tower.close(day) for day in (3, 4, 5)], [[7, 2][::-1], [5], [0]])
         numbers = [row[0] for row in tower.losses(1) + tower.backs(1)]
         self.assertEqual(sorted(numbers), list(range(len(numbers))))
@@ -215,14 +209,14 @@ class TestClosing(Case):
 
     def test_a_taking_back_of_an_earlier_day_goes_ahead_of_a_later_loss(self):
         rows = [loss(12, 1, 0), (2, 0, "storm", 12), loss(20, 3, 1), (4, 1, "storm", 6)]
-        one, two = filled(books_of(3), rows, [1]), filled(books_of(3), rows, [0, 1])
+        one, two = filled_tower(books_of(3), rows, [1]), filled_tower(books_of(3), rows, [0, 1])
         self.assertEqual(all_told(one), all_told(two))
         self.assertEqual([one.stands(1, one.made_of(0, 1, house)) for house in ("acme", "beta")], [0, 0])
         self.assertEqual([row[1] for row in one.backs(1)], [0, 0, 1, 1])
         self.assertEqual([row[0] for row in one.losses(1)], [0, 1, 4, 5])
 
     def test_entered_and_taken_back_within_one_close(self):
-        tower = filled(books_of(4), [loss(30, 1, 0), (2, 0, "storm", 30)], [0])
+        tower = filled_tower(books_of(4), [loss(30, 1, 0), (2, 0, "storm", 30)], [0])
         for r in range(4):
             self.assertGreater(len(tower.losses(r)), 0)
             self.assertEqual({tower.stands(r, row[0]) for row in tower.losses(r)}, {0})
@@ -230,8 +224,9 @@ class TestClosing(Case):
             self.assertEqual(sum(row[5] for row in tower.losses(r)), sum(row[3] for row in tower.backs(r)))
 
     def test_self_and_unpaid_cents_make_none(self):
-        for covers in ([], [cover("low", [Own("loss", 99)])], [cover("low", houses=[("self", 3)])], [cover("low", [Limit("loss", 0)])]):
-            tower = filled([Book(covers), upper_book()], [loss(30, 1, 0), (2, 0, "storm", 9)], [0])
+        for covers in ([], [cover("low", [Own("loss", 99)])], [cover("low", houses=[("self", 3)])],
+            [cover("low", [Limit("loss", 0)])]):
+            tower = filled_tower([Book(covers), upper_book()], [loss(30, 1, 0), (2, 0, "storm", 9)], [0])
             self.assertEqual((tower.losses(1), tower.backs(1), tower.stands(0, 1)), ([], [], 21))
             self.refused(NotTold, tower.made_of, 0, 1, "")
             self.refused(NotTold, tower.made_of, 0, 1, "self")
@@ -239,24 +234,25 @@ class TestClosing(Case):
 
     def test_one_house_by_several_covers_is_one_loss(self):
         covers = [cover("b", [Limit("loss", 3)], houses=[("acme", 1)]), cover("a", houses=[("acme", 1), ("beta", 1)])]
-        tower = filled([Book(covers), upper_book()], [loss(13, 1, 0), (2, 0, "storm", 11)], [0])
-        self.assertEqual([row[2:] for row in tower.losses(1)], [("storm.acme", "acme", "hail", 8), ("storm.beta", "beta", "hail", 5)])
+        tower = filled_tower([Book(covers), upper_book()], [loss(13, 1, 0), (2, 0, "storm", 11)], [0])
+        self.assertEqual([row[2:] for row in tower.losses(1)],
+            [("storm.acme", "acme", "hail", 8), ("storm.beta", "beta", "hail", 5)])
         self.assertEqual([row[2:] for row in tower.backs(1)], [("storm.acme", 6), ("storm.beta", 5)])
 
     def test_what_finds_none_is_not_handed_on(self):
-        tower = filled(books_of(2), [loss(12, 1, 0), (2, 0, "storm", 99), (3, 1, "storm", 5), (4, 1, "flood", 5)], [1])
+        tower = filled_tower(books_of(2), [loss(12, 1, 0), (2, 0, "storm", 99), (3, 1, "storm", 5), (4, 1, "flood", 5)], [1])
         self.assertEqual([tower.over(0, number) for number in (2, 3, 4)], [87, 5, 5])
         self.assertEqual([tower.origin(1, row[0])[0] for row in tower.backs(1)], [2, 2])
 
     def test_closing_again_makes_nothing_new(self):
-        tower = filled(books_of(3), [loss(30, 1, 3), (2, 3, "storm", 4)], [3])
+        tower = filled_tower(books_of(3), [loss(30, 1, 3), (2, 3, "storm", 4)], [3])
         ahead = all_told(tower)
         for day in (3, 0, 2, 4, 5, LAST, LAST):
             self.assertEqual(tower.close(day), [])
             self.assertEqual(all_told(tower), ahead)
 
     def test_no_day(self):
-        tower = filled(books_of(2), [loss(30, 1, 3)])
+        tower = filled_tower(books_of(2), [loss(30, 1, 3)])
         for thing in (-1, LAST + 1, True, False, None, "3", 3.0, [3]):
             self.refused(NoEntry, tower.close, thing)
         self.assertEqual(tower.close(LAST), [1])
@@ -316,9 +312,9 @@ class TestAsking(Case):
                     self.assertEqual((tower.gave(r, one[0]), tower.over(r, one[0])), (ledger.gave(one[0]), ledger.over(one[0])))
 
     def test_no_row(self):
-        tower = filled(books_of(4), [loss(30, 0, 3), (1, 3, "storm", 4)], [3])
+        tower = filled_tower(books_of(4), [loss(30, 0, 3), (1, 3, "storm", 4)], [3])
         for size in range(1, 5):
-            small = filled(books_of(size), [loss(30, 0, 3), (1, 3, "storm", 4)], [3])
+            small = filled_tower(books_of(size), [loss(30, 0, 3), (1, 3, "storm", 4)], [3])
             self.refused(NotTold, small.losses, size)
             self.refused(NotTold, small.strips, size, 0)
         for r in NO_ROWS:
@@ -331,7 +327,7 @@ class TestAsking(Case):
             self.refused(NotTold, tower.made_of, r, 0, "acme")
 
     def test_no_number(self):
-        tower = filled(books_of(2), [loss(30, 7, 3), (8, 3, "storm", 4), loss(9, 9, 5)], [3])
+        tower = filled_tower(books_of(2), [loss(30, 7, 3), (8, 3, "storm", 4), loss(9, 9, 5)], [3])
         for number in (8, 9, 0, 10**9, -1):
             for asked in (tower.strips, tower.stands, tower.bears):
                 self.refused(NotTold, asked, 0, number)
@@ -347,7 +343,7 @@ class TestAsking(Case):
                 self.refused(NotTold, asked, 1, number)
 
     def test_origin(self):
-        tower = filled(books_of(3), [loss(30, 7, 3), (8, 3, "storm", 4), loss(9, 9, 5)], [3])
+        tower = filled_tower(books_of(3), [loss(30, 7, 3), (8, 3, "storm", 4), loss(9, 9, 5)], [3])
         for number in (7, 8, 9, 0):
             self.refused(NotTold, tower.origin, 0, number)
         for r in (1, 2):
@@ -358,12 +354,13 @@ class TestAsking(Case):
                 self.refused(NotTold, tower.origin, r, number)
 
     def test_made_of(self):
-        tower = filled(books_of(2), [loss(30, 7, 3), (8, 3, "storm", 4), loss(9, 9, 5)], [3])
+        tower = filled_tower(books_of(2), [loss(30, 7, 3), (8, 3, "storm", 4), loss(9, 9, 5)], [3])
         self.assertEqual([tower.made_of(0, 7, house) for house in ("acme", "beta")], [0, 1])
-        for number, house in ((8, "acme"), (9, "acme"), (0, "acme"), (7, "zeta"), (7, ""), (7, "self"), (7, "Acme"), (7, "acme.b"), (-1, "acme")):
+        for number, house in ((8, "acme"), (9, "acme"), (0, "acme"), (7, "zeta"), (7, ""), (7, "self"), (7, "Acme"),
+            (7, "acme.b"), (-1, "acme")):
             self.refused(NotTold, tower.made_of, 0, number, house)
         for number in (True, "7", None, [7]):
-            self.refused(NotTold, filled(books_of(2), [loss(30, 1, 3)], [3]).made_of, 0, number, "acme")
+            self.refused(NotTold, filled_tower(books_of(2), [loss(30, 1, 3)], [3]).made_of, 0, number, "acme")
         self.assertEqual({row[0] for row in tower.bears(1, 0)}, {"", "acme", "zeta"})
         for number in (0, 1):
             for house in ("acme", "zeta"):
@@ -371,7 +368,7 @@ class TestAsking(Case):
 
     def test_told_lists_are_the_askers_own(self):
         rows = [loss(30, 7, 3), (8, 3, "storm", 4), loss(9, 9, 5)]
-        tower = filled(books_of(3), rows)
+        tower = filled_tower(books_of(3), rows)
         numbers = tower.close(3)
         wanted = all_told(tower)
         lists = [numbers, tower.foretell([(4, "storm", "roof", "hail", 9)])]
@@ -384,7 +381,7 @@ class TestAsking(Case):
             told.clear()
             self.assertEqual(all_told(tower), wanted)
         self.assertEqual(tower.close(LAST), [9])
-        self.assertEqual(all_told(tower), all_told(filled(books_of(3), rows, [LAST])))
+        self.assertEqual(all_told(tower), all_told(filled_tower(books_of(3), rows, [LAST])))
 
     def test_a_tower_of_one_book_tells_what_a_ledger_tells(self):
         for chooser, books, rows in made_towers(75, 40):
@@ -393,8 +390,10 @@ class TestAsking(Case):
             for day in (100, 50, 400):
                 self.assertEqual(tower.close(day), ledger.close(day))
                 self.assertEqual((tower.losses(0), tower.backs(0)), (ledger.settled(), ledger.backs()))
-                self.assertEqual([tower.bears(0, one[0]) for one in ledger.settled()], [ledger.bears(one[0]) for one in ledger.settled()])
-                self.assertEqual([tower.gave(0, one[0]) for one in ledger.backs()], [ledger.gave(one[0]) for one in ledger.backs()])
+                self.assertEqual([tower.bears(0, one[0]) for one in ledger.settled()],
+                    [ledger.bears(one[0]) for one in ledger.settled()])
+                self.assertEqual([tower.gave(0, one[0]) for one in ledger.backs()],
+                    [ledger.gave(one[0]) for one in ledger.backs()])
 
 
 class TestByHouse(unittest.TestCase):
@@ -405,7 +404,8 @@ class TestByHouse(unittest.TestCase):
         self.assertEqual(by_house(rows[:1]), [])
 
     def test_several_lists_put_together(self):
-        rows = [("b", "low", -1, 4), ("", "", 0, 9), ("a", "low", -1, 1), ("b", "low", -1, 10**12), ("ab", "x", -1, 7), ("a", "y", -1, 1)]
+        rows = [("b", "low", -1, 4), ("", "", 0, 9), ("a", "low", -1, 1), ("b", "low", -1, 10**12), ("ab", "x", -1, 7),
+            ("a", "y", -1, 1)]
         copy = list(rows)
         told = by_house(rows)
         self.assertEqual(told, [("a", 2), ("ab", 7), ("b", 10**12 + 4)])
